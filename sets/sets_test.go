@@ -177,7 +177,8 @@ func TestList(t *testing.T) {
 	}
 }
 
-// TestOfAndListAreInverse checks promise P5.4: for all sets, and for lists in any order, which come back in order.
+// TestOfAndListAreInverse checks promise P5.4: for all sets of the first events and some of the others, and for lists
+// that do not ascend, which come back in order.
 func TestOfAndListAreInverse(t *testing.T) {
 	for s := 0; s <= all; s += 1 + s>>10 {
 		list, err := sets.List(s)

@@ -75,7 +75,8 @@ func TestText(t *testing.T) {
 	}
 }
 
-// TestTextAndParseAreInverse checks promise P5.4.
+// TestTextAndParseAreInverse checks promise P5.4: for all sets of the first events and some of the others. That Text
+// returns what Parse accepts is checked with each text below.
 func TestTextAndParseAreInverse(t *testing.T) {
 	for s := 0; s <= all; s += 1 + s>>10 {
 		text, err := sets.Text(s)
